@@ -6,6 +6,7 @@ import (
 	"testing"
 
 	"wayfinder/api"
+	"wayfinder/heading"
 	"wayfinder/integer"
 	"wayfinder/rational"
 	"wayfinder/rotation"
@@ -245,6 +246,27 @@ func TestMarksAreDirections(t *testing.T) {
 			x, y = rotation.Turn(both, one, zero)
 			wantPoint(t, "the product of two marks", x, y, first.times(direction(int64(k/64), int64(k%64))))
 		}
+	}
+}
+
+// pointed is the point of the unit circle in the direction of v.
+func pointed(v api.Vector) point {
+	return ratio(int64(v.X), int64(v.Y), int64(v.D))
+}
+
+func TestMarksAgreeWithHeadings(t *testing.T) {
+	one, zero := over(1, 1), over(0, 1)
+	for h := range 256 {
+		x, y := rotation.Turn(rotation.Mark(h), one, zero)
+		wantPoint(t, "Mark", x, y, pointed(heading.Dir(h)))
+		for k := 0; k < 256; k += 3 {
+			x, y = rotation.Turn(rotation.Then(rotation.Mark(h), rotation.Mark(k)), one, zero)
+			wantPoint(t, "the product of two marks", x, y, pointed(heading.Beam(h, k)))
+		}
+	}
+	for _, h := range []int{-1, 256, 1<<50 + 3, math.MinInt, math.MaxInt} {
+		x, y := rotation.Turn(rotation.Mark(h), one, zero)
+		wantPoint(t, "Mark", x, y, pointed(heading.Dir(h)))
 	}
 }
 
